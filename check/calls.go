@@ -1,0 +1,116 @@
+package check
+
+import (
+	"mortise/api"
+	"mortise/kinds"
+	"mortise/lex"
+)
+
+// maxParts is how many parts a type has at most that is put in a type variable's place.
+const maxParts = 200
+
+func (c *checker) call(n api.Node) api.Type {
+	called, args := n.Kids[0], n.Kids[1:]
+	if called.Kind == api.NName && lex.Word(called.Text) {
+		return c.wordCall(n, called.Text)
+	}
+	if d, _ := c.named(called); isGeneric(d) {
+		return c.genericCall(n, d)
+	}
+	t := c.expr(called)
+	return c.result(n, t, c.exprs(args))
+}
+
+// isGeneric tells whether a declaration is a function with type variables.
+func isGeneric(d api.Decl) bool {
+	return d.Kind == api.DFunc && len(d.Fields) > 0
+}
+
+// genericCall notes what is called with the types put in that the arguments tell, ahead of the arguments' own notes.
+func (c *checker) genericCall(n api.Node, d api.Decl) api.Type {
+	at := c.note(n.Kids[0])
+	args := c.exprs(n.Kids[1:])
+	t := c.filled(n, d, args)
+	c.notes[at].Type = t
+	return c.result(n, t, args)
+}
+
+// result is what a call of a function with such arguments has.
+func (c *checker) result(n api.Node, called api.Type, args []api.Type) api.Type {
+	want(called.Kind == api.TFunc && len(args) == len(called.Args), n, api.ErrType)
+	for i, arg := range args {
+		want(c.fits(arg, called.Args[i]), n.Kids[1+i], api.ErrType)
+	}
+	if len(called.Res) == 0 {
+		return ofKind(api.TNone)
+	}
+	return called.Res[0]
+}
+
+// filled is the type of a function with type variables, with the types put in that they have in a call.
+func (c *checker) filled(n api.Node, d api.Decl, args []api.Type) api.Type {
+	var names []string
+	for _, v := range d.Fields {
+		names = append(names, v.Name)
+	}
+	types, ok := kinds.Infer(names, d.Type.Args, args)
+	want(ok, n, api.ErrType)
+	for i, t := range types {
+		want(c.mayFill(t, d.Fields[i].Type), n, api.ErrType)
+	}
+	return kinds.Put(d.Type, names, types)
+}
+
+// mayFill tells whether a type may be put in the place of a type variable that must be what is told.
+func (c *checker) mayFill(t, must api.Type) bool {
+	if partsOf(t) > maxParts || hasVar(t) && t.Kind != api.TVar {
+		return false
+	}
+	switch must.Kind {
+	case api.TNone:
+		return true
+	case api.TBool:
+		return kinds.Comparable(c.vars, t)
+	}
+	return c.fits(t, must)
+}
+
+// wordCall is what a call of one of the language's words has.
+func (c *checker) wordCall(n api.Node, word string) api.Type {
+	if word == "make" {
+		return c.makeCall(n)
+	}
+	want(len(n.Kids)-1 == argsOf(word), n, api.ErrType)
+	args := c.exprs(n.Kids[1:])
+	switch word {
+	case "len":
+		want(args[0].Kind == api.TSlice || args[0].Kind == api.TText, n, api.ErrType)
+		return ofKind(api.TInt)
+	case "append":
+		element, ok := elementOf(args[0])
+		want(ok && c.fits(args[1], element), n, api.ErrType)
+		return args[0]
+	case "get":
+		return ofKind(api.TInt)
+	}
+	want(args[0].Kind == api.TInt, n, api.ErrType)
+	return ofKind(api.TNone)
+}
+
+// argsOf is how many arguments a word wants that can be called.
+func argsOf(word string) int {
+	switch word {
+	case "append":
+		return 2
+	case "get":
+		return 0
+	}
+	return 1
+}
+
+func (c *checker) makeCall(n api.Node) api.Type {
+	t := c.typeOf(n.Kids[1])
+	want(t.Kind == api.TSlice, n.Kids[1], api.ErrType)
+	c.checkKind(n.Kids[2], api.TInt)
+	return t
+}
