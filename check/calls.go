@@ -1,6 +1,8 @@
 package check
 
 import (
+	"slices"
+
 	"mortise/api"
 	"mortise/kinds"
 	"mortise/lex"
@@ -31,7 +33,7 @@ func (c *checker) genericCall(n api.Node, d api.Decl) api.Type {
 	at := c.note(n.Kids[0])
 	args := c.exprs(n.Kids[1:])
 	t := c.filled(n, d, args)
-	c.notes[at].Type = t
+	c.notes[at].Type = c.kept(t)
 	return c.result(n, t, args)
 }
 
@@ -58,7 +60,25 @@ func (c *checker) filled(n api.Node, d api.Decl, args []api.Type) api.Type {
 	for i, t := range types {
 		want(c.mayFill(t, d.Fields[i].Type), n, api.ErrType)
 	}
-	return kinds.Put(d.Type, names, types)
+	return put(d.Type, names, types)
+}
+
+// put is a type with types in the place of variables. It shares these: layer 7's Put would copy each as often as it stands there.
+func put(t api.Type, names []string, types []api.Type) api.Type {
+	if at := slices.Index(names, t.Name); t.Kind == api.TVar && at >= 0 {
+		return types[at]
+	}
+	t.Args = putAll(t.Args, names, types)
+	t.Res = putAll(t.Res, names, types)
+	return t
+}
+
+func putAll(list []api.Type, names []string, types []api.Type) []api.Type {
+	var made []api.Type
+	for _, t := range list {
+		made = append(made, put(t, names, types))
+	}
+	return made
 }
 
 // mayFill tells whether a type may be put in the place of a type variable that must be what is told.

@@ -28,7 +28,7 @@ func (c *checker) exprs(nodes []api.Node) []api.Type {
 func (c *checker) operand(n api.Node) operand {
 	at := c.note(n)
 	o := c.meaning(n)
-	c.notes[at].Type = o.is
+	c.notes[at].Type = c.kept(o.is)
 	return o
 }
 

@@ -11,7 +11,7 @@ import (
 type finder struct {
 	pack   *pack
 	pkg    string
-	notes  []api.Note // their places are the nodes' numbers
+	notes  []api.Note // brief ones, whose places are the nodes' numbers
 	locals []string   // the local variables that are known
 	found  []symbol
 }

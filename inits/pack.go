@@ -20,13 +20,13 @@ type pack struct {
 
 // newPack is a package, 0 and OK; else none, and layer 10's place and error.
 func newPack(n api.Node, us []api.Unit) (*pack, int, api.Errno) {
-	if _, _, at, err := check.Check(n, us); err != api.OK {
+	if _, _, at, err := check.Brief(n, us); err != api.OK {
 		return nil, at, err
 	}
 	// A tree may have one place at several nodes, so that notes do not tell which of them they mean: those of a tree whose places are numbers do.
 	next := 0
 	tree := numbered(n, &next)
-	_, notes, _, _ := check.Check(tree, us)
+	_, notes, _, _ := check.Brief(tree, us)
 	p := &pack{places: map[symbol]int{}}
 	for i, d := range n.Kids {
 		p.declare(i, d)
