@@ -20,7 +20,7 @@ func (c *checker) call(n api.Node) api.Type {
 		return c.genericCall(n, d)
 	}
 	t := c.expr(called)
-	return c.result(n, t, c.exprs(args))
+	return c.result(n, t, c.args(args))
 }
 
 // isGeneric tells whether a declaration is a function with type variables.
@@ -28,20 +28,22 @@ func isGeneric(d api.Decl) bool {
 	return d.Kind == api.DFunc && len(d.Fields) > 0
 }
 
-// genericCall notes what is called with the types put in that the arguments tell, ahead of the arguments' own notes.
+// genericCall makes the fact of what is called, with the types put in that the arguments tell, ahead of the arguments' own ones.
 func (c *checker) genericCall(n api.Node, d api.Decl) api.Type {
-	at := c.note(n.Kids[0])
-	args := c.exprs(n.Kids[1:])
-	t := c.filled(n, d, args)
-	c.notes[at].Type = c.kept(t)
+	at := c.fact(n.Kids[0])
+	args := c.args(n.Kids[1:])
+	types := c.filling(n, d, args)
+	t := put(d.Type, namesOf(d.Fields), types)
+	c.facts[at].Type, c.facts[at].Filled = c.kept(t), allBare(types)
 	return c.result(n, t, args)
 }
 
 // result is what a call of a function with such arguments has.
-func (c *checker) result(n api.Node, called api.Type, args []api.Type) api.Type {
-	want(called.Kind == api.TFunc && len(args) == len(called.Args), n, api.ErrType)
-	for i, arg := range args {
+func (c *checker) result(n api.Node, called api.Type, args arguments) api.Type {
+	want(called.Kind == api.TFunc && len(args.types) == len(called.Args), n, api.ErrType)
+	for i, arg := range args.types {
 		want(c.fits(arg, called.Args[i]), n.Kids[1+i], api.ErrType)
+		c.facts[args.at[i]].Wanted = bare(called.Args[i])
 	}
 	if len(called.Res) == 0 {
 		return ofKind(api.TNone)
@@ -49,18 +51,22 @@ func (c *checker) result(n api.Node, called api.Type, args []api.Type) api.Type 
 	return called.Res[0]
 }
 
-// filled is the type of a function with type variables, with the types put in that they have in a call.
-func (c *checker) filled(n api.Node, d api.Decl, args []api.Type) api.Type {
-	var names []string
-	for _, v := range d.Fields {
-		names = append(names, v.Name)
-	}
-	types, ok := kinds.Infer(names, d.Type.Args, args)
+// filling are the types that a function's type variables have in a call.
+func (c *checker) filling(n api.Node, d api.Decl, args arguments) []api.Type {
+	types, ok := kinds.Infer(namesOf(d.Fields), d.Type.Args, args.types)
 	want(ok, n, api.ErrType)
 	for i, t := range types {
 		want(c.mayFill(t, d.Fields[i].Type), n, api.ErrType)
 	}
-	return put(d.Type, names, types)
+	return types
+}
+
+func namesOf(fields []api.Field) []string {
+	var names []string
+	for _, f := range fields {
+		names = append(names, f.Name)
+	}
+	return names
 }
 
 // put is a type with types in the place of variables. It shares these: layer 7's Put would copy each as often as it stands there.
@@ -101,20 +107,25 @@ func (c *checker) wordCall(n api.Node, word string) api.Type {
 		return c.makeCall(n)
 	}
 	want(len(n.Kids)-1 == argsOf(word), n, api.ErrType)
-	args := c.exprs(n.Kids[1:])
+	args := c.args(n.Kids[1:])
 	switch word {
 	case "len":
-		want(args[0].Kind == api.TSlice || args[0].Kind == api.TText, n, api.ErrType)
+		want(args.types[0].Kind == api.TSlice || args.types[0].Kind == api.TText, n, api.ErrType)
 		return ofKind(api.TInt)
 	case "append":
-		element, ok := elementOf(args[0])
-		want(ok && c.fits(args[1], element), n, api.ErrType)
-		return args[0]
+		return c.appended(n, args)
 	case "get":
 		return ofKind(api.TInt)
 	}
-	want(args[0].Kind == api.TInt, n, api.ErrType)
+	want(args.types[0].Kind == api.TInt, n, api.ErrType)
 	return ofKind(api.TNone)
+}
+
+func (c *checker) appended(n api.Node, args arguments) api.Type {
+	element, ok := elementOf(args.types[0])
+	want(ok && c.fits(args.types[1], element), n, api.ErrType)
+	c.facts[args.at[1]].Wanted = bare(element)
+	return args.types[0]
 }
 
 // argsOf is how many arguments a word wants that can be called.

@@ -16,26 +16,33 @@ func (c *checker) expr(n api.Node) api.Type {
 	return c.operand(n).is
 }
 
-func (c *checker) exprs(nodes []api.Node) []api.Type {
-	var types []api.Type
-	for _, n := range nodes {
-		types = append(types, c.expr(n))
-	}
-	return types
+// arguments are those of a call: their types, and the places of their facts.
+type arguments struct {
+	types []api.Type
+	at    []int
 }
 
-// operand notes an expression's type: its note stands ahead of those of what is in it.
+func (c *checker) args(nodes []api.Node) arguments {
+	var a arguments
+	for _, n := range nodes {
+		a.at = append(a.at, len(c.facts))
+		a.types = append(a.types, c.expr(n))
+	}
+	return a
+}
+
+// operand keeps what is known of an expression: its fact stands ahead of those of what is in it.
 func (c *checker) operand(n api.Node) operand {
-	at := c.note(n)
+	at := c.fact(n)
 	o := c.meaning(n)
-	c.notes[at].Type = c.kept(o.is)
+	c.facts[at].Type = c.kept(o.is)
 	return o
 }
 
-// note makes a note whose type is not known yet, and tells its place.
-func (c *checker) note(n api.Node) int {
-	c.notes = append(c.notes, api.Note{At: n.At})
-	return len(c.notes) - 1
+// fact makes a fact whose types are not known yet, and tells its place.
+func (c *checker) fact(n api.Node) int {
+	c.facts = append(c.facts, Fact{At: n.At})
+	return len(c.facts) - 1
 }
 
 func (c *checker) fits(from, to api.Type) bool {
@@ -44,7 +51,9 @@ func (c *checker) fits(from, to api.Type) bool {
 
 // checkFits wants an expression to fit a type.
 func (c *checker) checkFits(n api.Node, to api.Type) {
+	at := len(c.facts)
 	want(c.fits(c.expr(n), to), n, api.ErrType)
+	c.facts[at].Wanted = bare(to)
 }
 
 // checkKind wants an expression's type to be of a kind.

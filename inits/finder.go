@@ -5,14 +5,15 @@ import (
 	"slices"
 
 	"mortise/api"
+	"mortise/check"
 )
 
 // finder goes through a declaration, and finds which symbols of its package it names.
 type finder struct {
 	pack   *pack
 	pkg    string
-	notes  []api.Note // brief ones, whose places are the nodes' numbers
-	locals []string   // the local variables that are known
+	facts  []check.Fact // whose places are the nodes' numbers
+	locals []string     // the local variables that are known
 	found  []symbol
 }
 
@@ -75,11 +76,11 @@ func (f *finder) findMethodExpr(n api.Node) {
 	}
 }
 
-// typeOf is an expression's type; the name of a package has no note, and none.
+// typeOf is an expression's type; of the name of a package there is no fact, and none.
 func (f *finder) typeOf(n api.Node) api.Type {
-	at, noted := slices.BinarySearchFunc(f.notes, n.At, func(note api.Note, at int) int { return cmp.Compare(note.At, at) })
-	if !noted {
+	at, is := slices.BinarySearchFunc(f.facts, n.At, func(fact check.Fact, at int) int { return cmp.Compare(fact.At, at) })
+	if !is {
 		return api.Type{}
 	}
-	return f.notes[at].Type
+	return f.facts[at].Type
 }

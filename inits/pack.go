@@ -20,19 +20,19 @@ type pack struct {
 
 // newPack is a package, 0 and OK; else none, and layer 10's place and error.
 func newPack(n api.Node, us []api.Unit) (*pack, int, api.Errno) {
-	if _, _, at, err := check.Brief(n, us); err != api.OK {
+	if _, _, at, err := check.Facts(n, us); err != api.OK {
 		return nil, at, err
 	}
-	// A tree may have one place at several nodes, so that notes do not tell which of them they mean: those of a tree whose places are numbers do.
+	// A tree may have one place at several nodes, so that facts do not tell which of them they are of: those of a tree whose places are numbers do.
 	next := 0
 	tree := numbered(n, &next)
-	_, notes, _, _ := check.Brief(tree, us)
+	_, facts, _, _ := check.Facts(tree, us)
 	p := &pack{places: map[symbol]int{}}
 	for i, d := range n.Kids {
 		p.declare(i, d)
 	}
 	for _, d := range tree.Kids {
-		f := finder{pack: p, pkg: n.Text, notes: notes}
+		f := finder{pack: p, pkg: n.Text, facts: facts}
 		f.walkAll(d.Kids)
 		p.named = append(p.named, f.found)
 	}

@@ -7,10 +7,10 @@ import (
 )
 
 // names are those of a package's code: of what begins its vars, of functions and methods, of functions' literals.
-func (p pack) names() []string {
-	pkg := p.unit.Pkg
+func (p Pack) names() []string {
+	pkg := p.Unit.Pkg
 	names := []string{pkg + "#"}
-	for _, d := range p.unit.Decls {
+	for _, d := range p.Unit.Decls {
 		switch d.Kind {
 		case api.DFunc:
 			names = append(names, pkg+"."+d.Name)
@@ -18,7 +18,7 @@ func (p pack) names() []string {
 			names = append(names, pkg+"."+d.Of+"."+d.Name)
 		}
 	}
-	for _, at := range literals(p.tree) {
+	for _, at := range literals(p.Tree) {
 		names = append(names, pkg+"@"+strconv.Itoa(at))
 	}
 	return names

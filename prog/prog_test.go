@@ -11,6 +11,7 @@ import (
 	"mortise/api"
 	"mortise/check"
 	"mortise/export"
+	"mortise/inits"
 	"mortise/parse"
 	"mortise/prog"
 )
@@ -327,4 +328,31 @@ func copyOf(v reflect.Value) reflect.Value {
 		made.Set(v)
 	}
 	return made
+}
+
+// Packs are what Load tells, with the trees and with what layers 10 and 11 tell of them.
+func TestPacks(t *testing.T) {
+	right := 0
+	for round := range 60 {
+		m := &maker{state: uint64(round) + 1<<25}
+		m.make()
+		texts := m.texts()
+		order, us, _, want := prog.Load(texts)
+		packs, e := prog.Packs(texts)
+		if e != want || len(packs) != len(us) {
+			t.Fatalf("%q: %d, %d packages; Load tells %d, %d", texts, e, len(packs), want, len(us))
+		}
+		for i, p := range packs {
+			tree, _, _ := parse.Parse(texts[order[i]])
+			u, facts, _, _ := check.Facts(tree, us[:i])
+			vars, _, _ := inits.Order(tree, us[:i])
+			if !same(p.Tree, tree) || !same(p.Unit, u) || !same(u, us[i]) || !same(p.Facts, facts) || !slices.Equal(p.Vars, vars) {
+				t.Fatalf("%q: package %d is %v", texts, i, p)
+			}
+			right++
+		}
+	}
+	if right < 60 {
+		t.Error("few packages:", right)
+	}
 }
