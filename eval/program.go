@@ -40,9 +40,9 @@ type beginning struct {
 	steps []func()
 }
 
-// newProgram makes all that a program's packages declare, before anything of it: what is made of a text may name all of it.
-func newProgram(r *run, packs []prog.Pack, frames map[string]int) *program {
-	p := &program{
+// newProgram is a program that has no packages yet.
+func newProgram(r *run, frames map[string]int) *program {
+	return &program{
 		run:      r,
 		frames:   frames,
 		vars:     map[symbol]*value{},
@@ -50,6 +50,10 @@ func newProgram(r *run, packs []prog.Pack, frames map[string]int) *program {
 		routines: map[symbol]*routine{},
 		structs:  map[symbol]*structure{},
 	}
+}
+
+// add makes all that packages declare, before anything of it: what is made of a text may name all of it.
+func (p *program) add(packs []prog.Pack) {
 	for _, pack := range packs {
 		p.units = append(p.units, pack.Unit)
 		p.declare(pack.Unit)
@@ -59,7 +63,6 @@ func newProgram(r *run, packs []prog.Pack, frames map[string]int) *program {
 		m.fillAll(pack.Tree)
 		p.begins = append(p.begins, m.beginning(pack))
 	}
-	return p
 }
 
 func (p *program) declare(u api.Unit) {
@@ -109,7 +112,13 @@ func (p *program) needOf(name string) int {
 	return 16 + p.frames[name]
 }
 
-// begin begins all packages, and then calls main.
+// whole runs a whole program: main's main is called behind what begins its packages.
+func (p *program) whole() {
+	p.begin()
+	p.called("main", "main", nil)
+}
+
+// begin begins all packages.
 func (p *program) begin() {
 	for _, b := range p.begins {
 		p.run.enter(b.need)
@@ -118,7 +127,11 @@ func (p *program) begin() {
 		}
 		p.run.leave(b.need)
 	}
-	p.run.do(&function{routine: p.routines[symbol{pkg: "main", name: "main"}]}, nil)
+}
+
+// called is the result of a function without type variables that a package declares.
+func (p *program) called(pkg, name string, args []value) value {
+	return p.run.do(&function{routine: p.routines[symbol{pkg: pkg, name: name}]}, args)
 }
 
 // leads tells whether a value is a pointer to a struct that may be held as a pointer's type, or that has all methods of an interface.

@@ -356,3 +356,26 @@ func TestPacks(t *testing.T) {
 		t.Error("few packages:", right)
 	}
 }
+
+// Alone is a package with the units of others, or the first error of layers 5, 10 and 11.
+func TestAlone(t *testing.T) {
+	us := []api.Unit{{Pkg: "a", Decls: []api.Decl{{Kind: api.DConst, Name: "C", Value: 1}}}}
+	for _, c := range []struct {
+		text string
+		err  api.Errno
+	}{
+		{"package p; import a; var x int = y + a.C; var y int = 2;", api.OK}, {"package a; func f() { }", api.OK}, {bareMain, api.OK},
+		{"package p; import a; var x int = y + a.C; var y int = 2", api.ErrText}, {"package p; import b;", api.ErrName}, {"package p; import a; var x bool = a.C;", api.ErrType}, {"package p; var x int = x;", api.ErrCycle}, {"package p; var x int = x; var y int = true;", api.ErrType}, {"package p; import b; 5", api.ErrText},
+	} {
+		made, e := prog.Alone(c.text, us)
+		var want prog.Pack
+		if c.err == api.OK {
+			want.Tree, _, _ = parse.Parse(c.text)
+			want.Unit, want.Facts, _, _ = check.Facts(want.Tree, us)
+			want.Vars, _, _ = inits.Order(want.Tree, us)
+		}
+		if e != c.err || !same(made, want) {
+			t.Errorf("%q: %d, %v", c.text, e, made)
+		}
+	}
+}
